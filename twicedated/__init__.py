@@ -1,0 +1,1 @@
+"""Twicedated: a records office that never forgets what it said."""
