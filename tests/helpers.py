@@ -62,6 +62,66 @@ def some_changes(dice, facts, many, days=DAYS):
     return changes
 
 
+# Changes between the days above are alike on all days of each of these blocks.
+BLOCKS = [(day, day) for day in DAYS[:12]] + [(12, LAST - 12)] + [(day, day) for day in DAYS[12:]]
+
+
+def put_together(rows):
+    """Ascending rows (first, last, thing) without gaps in between: neighbours with the same thing put together."""
+    told = []
+    for first, last, thing in rows:
+        if told and told[-1][2] == thing and told[-1][1] + 1 == first:
+            told[-1] = (told[-1][0], last, thing)
+        else:
+            told.append((first, last, thing))
+    return tuple(told)
+
+
+def row_where(is_so):
+    """The row of the blocks of which a test of their first day is so."""
+    return tuple((first, last) for first, last, so in put_together([(a, b, is_so(a)) for a, b in BLOCKS]) if so)
+
+
+class Reading:
+    """What was known of each fact on each day at each moment, by reading the changes one by one."""
+
+    def __init__(self, facts, changes):
+        self.facts = facts
+        self.known = [{(fact, day): False for fact in facts for day, _ in BLOCKS}]
+        self.blames = [{key: 0 for key in self.known[0]}]
+        self.lasts = [{key: 0 for key in self.known[0]}]
+        for number, (word, relation, names, first, last) in enumerate(changes, start=1):
+            known, blames, lasts = dict(self.known[-1]), dict(self.blames[-1]), dict(self.lasts[-1])
+            for day, _ in BLOCKS:
+                key = ((relation, names), day)
+                if first <= day <= last:
+                    lasts[key] = number
+                    if known[key] != (word == "set"):
+                        blames[key] = number
+                    known[key] = word == "set"
+            self.known.append(known)
+            self.blames.append(blames)
+            self.lasts.append(lasts)
+
+    def row(self, fact, moment):
+        """The row of the days on which a fact was known."""
+        return row_where(lambda day: self.known[moment][fact, day])
+
+    def rows(self, moment):
+        """What the rows of the book at a moment must be."""
+        return {fact: self.row(fact, moment) for fact in sorted(self.facts) if self.row(fact, moment)}
+
+    def moments(self, fact, day):
+        """The longest (from, to) at which a fact was known on a day."""
+        told = []
+        for moment, known in enumerate(self.known):
+            if known[fact, day] and not self.known[moment - 1][fact, day]:
+                told.append((moment, None))
+            elif moment and not known[fact, day] and self.known[moment - 1][fact, day]:
+                told[-1] = (told[-1][0], moment - 1)
+        return tuple(told)
+
+
 def dice(number):
     """A source of chances that is the same at each run."""
     return random.Random(number)
