@@ -125,11 +125,53 @@ class MeetingTest(unittest.TestCase):
         self.assertEqual(caught.exception.most, 2)
 
     def test_deep_things(self):
-        thing = 5
-        for _ in range(8):
-            thing = (thing,)
-        self.assertEqual(fewest_meeting([[thing]], NEVER), ((thing,), (0, ())))
-        self.assertIs(is_fewest_meeting([[thing]], (thing,), (0, ())), True)
+        for deep in (8, 9, 400, 5000):
+            thing = 5
+            for _ in range(deep):
+                thing = (thing, )
+            things, tree = fewest_meeting([[thing], [thing, 7]], NEVER)
+            self.assertEqual(len(things), 1)
+            self.assertIs(things[0], thing)
+            self.assertIs(is_fewest_meeting([[thing]], things, tree), True)
+            self.assertIs(is_fewest_meeting([[thing]], ((thing,),), tree), False)
+            self.assertIs(is_fewest_meeting([[thing]], thing, tree), False)
+
+    def test_tuples_with_anything(self):
+        box = object()
+        pool = [("a", False), ("b", True), 3, ("c", (None, False)), (True,), (None,), (b"x",), (1.5, "a"), (), ((),), ((), ()),
+                (box,), (frozenset([1]), 2), (float("inf"),), (((True,), None),), 0, 1]
+        for number in range(300):
+            lots = some_lots(number, pool)
+            things, tree = fewest_meeting(lots, NEVER)
+            self.assertEqual(len(set(things)), len(things))
+            self.assertEqual(len(things), self.fewest_of(lots))
+            self.assertTrue(all(set(things) & set(lot) for lot in lots))
+            self.assertIs(is_fewest_meeting(lots, things, tree), True)
+            self.assertIs(is_fewest_meeting(lots, things[::-1], tree), True)
+            self.assertIs(is_fewest_meeting(lots, things + ((None, True),), tree), False)
+
+    def fewest_of(self, lots):
+        """How many things meet all lots, of things that can't all be compared."""
+        things = list(dict.fromkeys(thing for lot in lots for thing in lot))
+        numbers = [[things.index(thing) for thing in lot] for lot in lots]
+        return fewest(numbers)
+
+    def test_equal_things_are_one(self):
+        # Python says that these are equal, so each lot that has the one has the other.
+        for one, other in (((True,), (1,)), ((1,), (True,)), ((0, (False,)), (False, (0,)))):
+            things, tree = fewest_meeting([[one, 5], [other, 6]], NEVER)
+            self.assertEqual(things, (one,))
+            self.assertIs(is_fewest_meeting([[one, 5], [other, 6]], (one,), tree), True)
+            self.assertIs(is_fewest_meeting([[one, 5], [other, 6]], (other,), tree), True)
+            self.assertIs(is_fewest_meeting([[one]], (other,), (0, ())), False)
+
+    def test_ascending(self):
+        things = [(), (0,), (0, 0), (0, 1), (1,), (1, "a"), (1, "b"), ("a",), ("a", ()), ("a", (5,)), ("a", (5, 0)), ("b",)]
+        told, _ = fewest_meeting([[thing] for thing in things[::-1]], NEVER)
+        self.assertEqual(told, tuple(things))
+        comparable = [(2, ("b", -1)), (2, ("b",)), (2, ("a", 7)), (-2, ("z",)), (2, ("b", -1, 0))]
+        told, _ = fewest_meeting([[thing] for thing in comparable], NEVER)
+        self.assertEqual(told, tuple(sorted(comparable)))
 
     def test_integers_and_tuples(self):
         things, tree = fewest_meeting([[("a", 1)], [5], [("a", 0), 7], [7]], NEVER)
@@ -162,12 +204,25 @@ class JudgeTest(unittest.TestCase):
     def test_things_of_any_form(self):
         tree = (0, ())
         self.assertIs(is_fewest_meeting([[1, 0]], (1,), tree), True)
-        for thing in NO_INTEGERS + [[], {}, ([],), ({},), (1, [2]), (True,), 1.0, 0.0, "1", frozenset(), (1.0,), (1,)]:
+        endless = ()
+        for _ in range(200):
+            endless = (endless, endless)
+        for thing in NO_INTEGERS + [[], {}, ([],), ({},), (1, [2]), (True,), 1.0, 0.0, "1", frozenset(), (1.0,), (1,), endless]:
             self.assertIs(is_fewest_meeting([[1, 0]], (thing,), tree), False)
             self.assertIs(is_fewest_meeting([[1, 0], [2]], (1, thing), (1, ((2, tree),))), False)
             self.assertIs(is_fewest_meeting([[1, 0], [2]], (1, 2), (1, ((thing, tree),))), False)
             self.assertIs(is_fewest_meeting([[1, 0], [2]], (1, 2), (1, ((2, tree), (thing, tree)))), False)
             self.assertIs(is_fewest_meeting([[1, 0], [2]], (1, 2), (1, (thing,))), False)
+
+    def test_truth_values(self):
+        leaf = (0, ())
+        self.assertIs(is_fewest_meeting([[(True,)]], ((True,),), leaf), True)
+        self.assertIs(is_fewest_meeting([[("c", (None, False))]], (("c", (None, False)),), leaf), True)
+        for lots, thing in (([[(True,)]], (False,)), ([[(True,)]], True), ([[(True,)]], ([True],)), ([[(True,)]], (1,)),
+                            ([[1]], True), ([[0]], False), ([[True]], True), ([[("c", (None, False))]], ("c", (None, 0))),
+                            ([[("c", (None, False))]], ("c", (False, None))), ([[("c", (None, False))]], ("c", [None, False])),
+                            ([[("c", (None, False))]], ("c", None, False))):
+            self.assertIs(is_fewest_meeting(lots, (thing,), leaf), False)
 
     def test_tuples_of_any_form(self):
         point = POINTS[0]
@@ -176,6 +231,8 @@ class JudgeTest(unittest.TestCase):
         for _ in range(100000):
             deep = (deep,)
         for thing in (list(point), ("lives", ["ann", "rome"], 5), ("lives", ("ann", "rome"), 5.0), ("lives", [], 5),
+                      ("lives", "ann", "rome", 5), (("lives", "ann"), "rome", 5), ("lives", ("ann", "rome", 5)),
+                      ("lives", ("ann", "rome"), True), ("lives", {"ann"}, 5), ("lives", ("ann", b"rome"), 5),
                       ("lives", ("ann", "rome"), {}), ("lives", ("ann", "rome")), deep, (deep, [])):
             self.assertIs(is_fewest_meeting([[point]], (thing,), (0, ())), False)
         self.assertIs(is_fewest_meeting([[("a", 1)]], (("a", True),), (0, ())), False)

@@ -2,9 +2,7 @@
 
 from twicedated.errors import TooMany
 from twicedated.relations import is_integer
-
-# Keys of dicts are nested no deeper, so things of lots aren't, either.
-DEEPEST = 8
+from twicedated.things import Catalog
 
 
 def fewest_meeting(lots, most):
@@ -12,46 +10,41 @@ def fewest_meeting(lots, most):
     TooMany if more trees would have to be made than most."""
     if most == 0:
         raise TooMany(most)
-    rows = [_unlike(lot) for lot in lots]
-    if not all([len(row) > 0 for row in rows]):
+    catalog = Catalog(lots)
+    if not all([len(row) > 0 for row in catalog.lots]):
         return None
-    if not rows:
+    if not catalog.lots:
         return (), None
-    search = Search(rows, most)
+    search = Search(catalog, most)
     tree = None
     more = search.apart() - 1
     while True:
-        things, higher = search.things_or_tree(more)
+        numbers, higher = search.numbers_or_tree(more)
         if higher is None:
-            # Integers stand ahead of tuples: the two can't be compared.
-            return tuple(sorted(things, key=lambda thing: (isinstance(thing, tuple), thing))), tree
+            return catalog.ascending(numbers), tree
         tree = higher
         more += 1
 
 
 def is_fewest_meeting(lots, things, tree):
     """Whether anybody's things meet all lots, and anybody's tree shows that fewer don't do."""
-    if not isinstance(things, tuple) or not all([_is_thing(thing) for thing in things]):
+    if not isinstance(things, tuple):
         return False
-    rows = [_unlike(lot) for lot in lots]
-    met = _met_by(rows)
-    unmet = _all_of(rows)
+    catalog = Catalog(lots)
+    met = _met_by(catalog.lots)
+    unmet = _all_of(catalog.lots)
     taken = {}
     for thing in things:
-        if thing in taken or thing not in met:
+        number = catalog.number_of(thing)
+        if number is None or number in taken:
             return False
-        taken[thing] = True
-        unmet = unmet & ~met[thing]
+        taken[number] = True
+        unmet = unmet & ~met[number]
     if unmet != 0:
         return False
     if not things:
         return tree is None
-    return _is_tree(rows, met, tree, len(things) - 1)
-
-
-def _unlike(lot):
-    """The unlike things of a lot."""
-    return list({thing: True for thing in lot})
+    return _is_tree(catalog, met, tree, len(things) - 1)
 
 
 def _all_of(rows):
@@ -60,48 +53,49 @@ def _all_of(rows):
 
 
 def _met_by(rows):
-    """The dict from things to integers: a bit for each row that has it, the first row's being the lowest one."""
+    """The dict from numbers of things to integers: a bit for each row that has it, the first row's the lowest one."""
     met = {}
     for place, row in enumerate(rows):
-        for thing in row:
-            met[thing] = met.get(thing, 0) | 1 << place
+        for number in row:
+            met[number] = met.get(number, 0) | 1 << place
     return met
 
 
 class Frame:
-    """A tree that is being made for so many more things: a lot's number, its things, and the branches so far."""
+    """A tree that is being made for so many more things: a lot's number, its things' numbers, and the branches."""
 
-    def __init__(self, number, things, unmet, more):
-        self.number = number
-        self.things = things
+    def __init__(self, lot, numbers, unmet, more):
+        self.lot = lot
+        self.numbers = numbers
         self.unmet = unmet
         self.more = more
         self.branches = []
 
     def is_whole(self):
         """Whether no branch is lacking."""
-        return self.more == 0 or len(self.branches) == len(self.things)
+        return self.more == 0 or len(self.branches) == len(self.numbers)
 
-    def thing(self):
-        """The thing of the next branch."""
-        return self.things[len(self.branches)]
+    def number(self):
+        """The number of the thing of the next branch."""
+        return self.numbers[len(self.branches)]
 
     def tree(self):
         """The tree out of all branches."""
-        return self.number, tuple(self.branches)
+        return self.lot, tuple(self.branches)
 
 
 class Search:
-    """Looks for few things that meet all of some rows of things, or for a tree that shows that so few don't.
+    """Looks for few things that meet all lots of a catalog, or for a tree that shows that so few don't.
 
     The rows that are unmet are the bits of an integer, rows of few things being the lowest: trees begin with the
     lowest one, as it has the fewest branches. A tree hangs on what is unmet alone, not on which things were taken, so
     it is made once for all ways there. Frames stand in a list, since trees may be deeper than calls.
     """
 
-    def __init__(self, rows, most):
-        self.order = sorted(range(len(rows)), key=lambda number: len(rows[number]))
-        self.rows = [rows[number] for number in self.order]
+    def __init__(self, catalog, most):
+        self.things = catalog.things
+        self.order = sorted(range(len(catalog.lots)), key=lambda lot: len(catalog.lots[lot]))
+        self.rows = [catalog.lots[lot] for lot in self.order]
         self.met = _met_by(self.rows)
         self.trees = {}
         self.looked = 0
@@ -112,14 +106,14 @@ class Search:
         taken = {}
         many = 0
         for row in self.rows:
-            if not any([thing in taken for thing in row]):
+            if not any([number in taken for number in row]):
                 many += 1
-                for thing in row:
-                    taken[thing] = True
+                for number in row:
+                    taken[number] = True
         return many
 
-    def things_or_tree(self, more):
-        """A list of so many things that meet all rows, and None; if there are none, an empty one and a tree."""
+    def numbers_or_tree(self, more):
+        """A list of the numbers of so many things that meet all rows, and None; if none do, an empty one and a tree."""
         frames = [self.frame(_all_of(self.rows), more)]
         while True:
             frame = frames[-1]
@@ -129,16 +123,20 @@ class Search:
                 frames.pop()
                 if not frames:
                     return [], tree
-                frames[-1].branches.append((frames[-1].thing(), tree))
+                self.put_branch(frames[-1], tree)
             else:
-                unmet = frame.unmet & ~self.met[frame.thing()]
+                unmet = frame.unmet & ~self.met[frame.number()]
                 tree = self.trees.get((unmet, frame.more - 1))
                 if unmet == 0:
-                    return [above.thing() for above in frames], None
+                    return [above.number() for above in frames], None
                 if tree is None:
                     frames.append(self.frame(unmet, frame.more - 1))
                 else:
-                    frame.branches.append((frame.thing(), tree))
+                    self.put_branch(frame, tree)
+
+    def put_branch(self, frame, tree):
+        """Puts to a frame the tree behind the thing of its next branch."""
+        frame.branches.append((self.things[frame.number()], tree))
 
     def frame(self, unmet, more):
         """A new frame for what is unmet; TooMany."""
@@ -149,49 +147,41 @@ class Search:
         return Frame(self.order[lowest], self.rows[lowest], unmet, more)
 
 
-def _is_tree(rows, met, tree, more):
+def _is_tree(catalog, met, tree, more):
     """Whether anything is a tree for so many more things, behind none. Trees wait in a list, however deep they are."""
-    waiting = [(tree, _all_of(rows), more)]
+    waiting = [(tree, _all_of(catalog.lots), more)]
     while waiting:
         told, unmet, left = waiting.pop()
-        branches = _branches_of(told, rows, unmet, left)
+        branches = _branches_of(told, catalog, unmet, left)
         if branches is None:
             return False
-        for thing, smaller in branches:
-            waiting.append((smaller, unmet & ~met[thing], left - 1))
+        for number, smaller in branches:
+            waiting.append((smaller, unmet & ~met[number], left - 1))
     return True
 
 
-def _branches_of(told, rows, unmet, more):
-    """The branches of anything that is a tree for so many more things but for what is in its branches, else None."""
+def _branches_of(told, catalog, unmet, more):
+    """The (number of a thing, smaller tree) of anything that is a tree for so many more things, as far as is seen
+    without looking into the smaller trees; None if it is none."""
     if not _is_pair(told):
         return None
-    number, branches = told
-    if not is_integer(number) or not 0 <= number < len(rows) or unmet >> number & 1 == 0:
+    lot, branches = told
+    if not is_integer(lot) or not 0 <= lot < len(catalog.lots) or unmet >> lot & 1 == 0:
         return None
     if not isinstance(branches, tuple):
         return None
     if more == 0:
-        return None if branches else ()
-    if not all([_is_pair(branch) and _is_thing(branch[0]) for branch in branches]):
+        return None if branches else []
+    if not all([_is_pair(branch) for branch in branches]):
         return None
-    if set([branch[0] for branch in branches]) != set(rows[number]):
+    found = [(catalog.number_of(thing), smaller) for thing, smaller in branches]
+    if any([number is None for number, _ in found]):
         return None
-    return branches
+    if set([number for number, _ in found]) != set(catalog.lots[lot]):
+        return None
+    return found
 
 
 def _is_pair(thing):
     """Whether anything is a tuple of two."""
     return isinstance(thing, tuple) and len(thing) == 2
-
-
-def _is_thing(thing):
-    """Whether anything can be a thing of a lot: an integer, or a tuple that can be looked up without harm."""
-    return is_integer(thing) or isinstance(thing, tuple) and _is_plain(thing, DEEPEST)
-
-
-def _is_plain(thing, deepest):
-    """Whether anything is made of integers, texts, bytes and None, in tuples nested at most so deep."""
-    if isinstance(thing, tuple):
-        return deepest > 0 and all([_is_plain(part, deepest - 1) for part in thing])
-    return thing is None or is_integer(thing) or isinstance(thing, (str, bytes))
