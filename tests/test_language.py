@@ -155,6 +155,23 @@ class LanguageTest(unittest.TestCase):
                     if isinstance(word, str):
                         self.assertIsNone(BARRED.fullmatch(word), f"{name} {word}")
 
+    def test_generators(self):
+        functions = [node for _, node in nodes(ast.FunctionDef)]
+        made = [node.name for node in functions if any(isinstance(part, (ast.Yield, ast.YieldFrom)) for part in ast.walk(node))]
+        for name in made:
+            self.assertEqual(sum(1 for node in functions if node.name == name), 1, name)
+        for name, tree in trees():
+            heads = [node.iter for node in ast.walk(tree) if isinstance(node, (ast.For, ast.comprehension))]
+            for node in ast.walk(tree):
+                if isinstance(node, ast.Call) and getattr(node.func, "id", getattr(node.func, "attr", None)) in made:
+                    self.assertTrue(node in heads, f"{name}:{node.lineno}")
+
+    def test_names_that_are_methods_and_attributes(self):
+        for place, node in nodes(ast.ClassDef):
+            methods = {part.name for part in node.body if isinstance(part, ast.FunctionDef)}
+            kept = {part.attr for part in ast.walk(node) if isinstance(part, ast.Attribute) and isinstance(part.ctx, ast.Store)}
+            self.assertFalse(methods & kept, place)
+
     def test_sets(self):
         for place, node in nodes(ast.For, ast.comprehension):
             self.assertNotIsInstance(node.iter, (ast.Set, ast.SetComp), place)

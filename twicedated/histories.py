@@ -2,8 +2,8 @@
 
 from twicedated.books import Book, check_change
 from twicedated.errors import BadMoment
-from twicedated.layers import (blame_among, does_set, known_days, layers_by_fact, layers_of, longest, moments_among,
-                               numbers_on, stretches, top_of)
+from twicedated.layers import (blame_among, columns_among, does_set, known_days, layers_by_fact, layers_of,
+                               moments_among, numbers_on, top_of)
 from twicedated.relations import checked_relations, is_integer
 
 
@@ -65,9 +65,7 @@ class History:
 
     def columns(self, fact):
         """The (first day, last day, moments) of the longest stretches of days that were known at the same moments."""
-        layers = layers_of(self.changes, fact)
-        told = [(first, last, moments_among(self.changes, over)) for first, last, over in stretches(layers)]
-        return tuple([column for column in longest(told) if column[2]])
+        return columns_among(self.changes, layers_of(self.changes, fact))
 
     def blame(self, fact, day, moment):
         """The number of the last change up to a moment that made a difference to a fact on a day, or 0; BadMoment."""
@@ -75,7 +73,7 @@ class History:
         return blame_among(changes, numbers_on(layers_of(changes, fact), day))
 
 
-def _is_among(moment, moments):
+def is_among(moment, moments):
     """Whether a moment is in one of some (from, to)."""
     return any([since <= moment and (until is None or moment <= until) for since, until in moments])
 
@@ -84,5 +82,5 @@ def from_columns(relations, told, moment):
     """The book at a moment, out of a dict from facts to columns."""
     rows = {}
     for fact in told:
-        rows[fact] = [(first, last) for first, last, moments in told[fact] if _is_among(moment, moments)]
+        rows[fact] = [(first, last) for first, last, moments in told[fact] if is_among(moment, moments)]
     return Book(relations, rows)

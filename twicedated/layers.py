@@ -108,3 +108,9 @@ def moments_among(changes, numbers):
     if since:
         told.append((since, None))
     return tuple(told)
+
+
+def columns_among(changes, layers):
+    """The (first day, last day, moments) of the longest stretches of days that were known at the same moments."""
+    told = [(first, last, moments_among(changes, over)) for first, last, over in stretches(layers)]
+    return tuple([column for column in longest(told) if column[2]])

@@ -3,6 +3,9 @@
 from twicedated.errors import BadSpans
 from twicedated.relations import LAST_DAY, is_day
 
+# The row of all days.
+EVER = ((0, 999999),)
+
 
 def is_span(thing):
     """Whether anything is a span: a tuple of two days, the first one not behind the last one."""
@@ -75,8 +78,8 @@ def unlike(one, other):
     return union(less(one, other), less(other, one))
 
 
-def has(one, day):
-    """Whether a row has a day."""
+def _ended_ahead(one, day):
+    """How many spans of a row end ahead of a day."""
     low = 0
     high = len(one)
     while low < high:
@@ -85,7 +88,27 @@ def has(one, day):
             low = middle + 1
         else:
             high = middle
-    return low < len(one) and one[low][0] <= day
+    return low
+
+
+def has(one, day):
+    """Whether a row has a day."""
+    place = _ended_ahead(one, day)
+    return place < len(one) and one[place][0] <= day
+
+
+def first_from(one, day):
+    """The first day of a row that isn't ahead of a day, None if there is none."""
+    place = _ended_ahead(one, day)
+    return max(one[place][0], day) if place < len(one) else None
+
+
+def last_until(one, day):
+    """The last day of a row that isn't behind a day, None if there is none."""
+    place = _ended_ahead(one, day)
+    if place < len(one) and one[place][0] <= day:
+        return day
+    return one[place - 1][1] if place > 0 else None
 
 
 def how_many(one):
