@@ -137,6 +137,20 @@ class HoldTest(unittest.TestCase):
             two = [("less", hour, day(2)) for hour in hours]
             self.look_at(tests + two, many % 2 == 0)
 
+    def test_several_unlike_days_in_few(self):
+        both = []
+        for number in range(150):
+            chance = dice(number)
+            hours = [when(word) for word in "abcdef"]
+            days = chance.choice([LOW[:3], HIGH[-3:], LOW[:4]])
+            tests = [("most", hour, day(days[-1])) if days[0] == 0 else ("most", day(days[0]), hour) for hour in hours]
+            tests += [("unlike", *chance.sample(hours, 2)) for _ in range(chance.randrange(6, 20))]
+            tests += [(chance.choice(["most", "less"]), *chance.sample(hours, 2)) for _ in range(chance.randrange(4))]
+            chance.shuffle(tests)
+            both.append(bool(worths(terms_of(tests), tests, days, [])))
+            self.look_at(tests, both[-1])
+        self.assertTrue(30 < sum(both) < 120, sum(both))
+
     def test_many_unlike_days(self):
         began = time.process_time()
         hours = [when(f"t{number}") for number in range(24)]
