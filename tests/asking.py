@@ -142,3 +142,104 @@ def some_question(chance, relations, numbers):
     clauses = tuple(some_clause(chance, relations, numbers, head=head) for _ in range(chance.choice([1, 1, 2])))
     unless = tuple(some_clause(chance, relations, numbers, head=head) for _ in range(chance.choice([0, 0, 1, 2])))
     return Question(head, clauses, unless)
+
+
+def some_rules(chance, relations, numbers, many):
+    """Some rules."""
+    return tuple(some_clause(chance, relations, numbers, has_now=False) for _ in range(many))
+
+
+def some_kind(chance, relations, numbers):
+    """A kind of correction."""
+    relation = chance.choice(sorted(relations))
+    names = tuple(chance.choice([None, None, "ann", "rome"]) for _ in range(relations[relation]))
+    return relation, names, *sorted([chance.choice(numbers), chance.choice(numbers)])
+
+
+def tight_clause(chance, many, has_now=True, head=()):
+    """A clause of facts of one relation of one name, with many tests: there many bars are near each other."""
+    while True:
+        atoms = tuple(("pays", (any_(chance.choice("pqrsu")),), NOW if has_now and chance.random() < 0.25 else
+                       when(chance.choice("tuv"))) for _ in range(many))
+        if all(term in [atom[1][0] for atom in atoms] for term in head):
+            break
+    days = [atom[2] for atom in atoms] + ([NOW] if has_now else [])
+    names = [atom[1][0] for atom in atoms]
+    worth = {term: chance.randrange(4) for term in days + names}
+    tests = []
+    for _ in range(chance.randrange(20)):
+        word, sort = chance.choice([("less", days), ("most", days), ("same", days), ("unlike", days), ("same", names),
+                                    ("unlike", names), ("unlike", names)])
+        one, other = chance.choice(sort), chance.choice(sort)
+        # Only such as hold at once, or nothing would ever match.
+        if one != other and len(tests) < 6 and holds((word, one, other), worth):
+            tests.append((word, one, other))
+    return Clause(atoms, tuple(tests))
+
+
+def tight_question(chance):
+    """A question of such clauses."""
+    head = chance.choice([(), (any_("p"),)])
+    clauses = tuple(tight_clause(chance, chance.choice([1, 2, 3]), head=head) for _ in range(chance.choice([1, 2, 3])))
+    unless = tuple(tight_clause(chance, chance.choice([2, 3]), head=head) for _ in range(chance.choice([0, 1, 2])))
+    return Question(head, clauses, unless)
+
+
+def tight_rules(chance):
+    """Rules of such clauses that let one point be by itself."""
+    rules = []
+    while len(rules) < 3:
+        rule = tight_clause(chance, chance.choice([2, 2, 3]), has_now=False)
+        if keeps([("pays", ("ann",), 5)], (rule,)):
+            rules.append(rule)
+    return tuple(rules[chance.choice([0, 0, 1]):])
+
+
+def known_by(points):
+    """The dict of facts to sets of days of some points."""
+    known = {}
+    for relation, names, number in points:
+        known.setdefault((relation, names), set()).add(number)
+    return known
+
+
+def keeps(points, rules):
+    """Whether no rule matches some points, by trying all."""
+    return not any(matches_of(rule, known_by(points), 0) for rule in rules)
+
+
+def some_points(chance, rules, relations, numbers, many, names=("ann", "bob", "rome", "oslo")):
+    """Some points that keep rules, of few names and days."""
+    points = []
+    for _ in range(many):
+        relation = chance.choice(sorted(relations))
+        point = relation, tuple(chance.choice(names) for _ in range(relations[relation])), chance.choice(numbers)
+        if point not in points and keeps([*points, point], rules):
+            points.append(point)
+    return points
+
+
+def renamed(thing, names):
+    """A clause, a question, rules, a kind or parts of them with other names, of relations, variables and names."""
+    if isinstance(thing, Clause):
+        return Clause(renamed(thing.atoms, names), tuple((word, *renamed(terms, names)) for word, *terms in thing.tests))
+    if isinstance(thing, Question):
+        return Question(*[renamed(part, names) for part in (thing.head, thing.clauses, thing.unless)])
+    if isinstance(thing, (tuple, list)):
+        if len(thing) == 2 and thing[0] in ("any", "when", "name"):
+            return thing[0], names.get(thing[1], thing[1])
+        if thing == NOW or len(thing) == 2 and thing[0] == "day":
+            return thing
+        return tuple(renamed(part, names) for part in thing)
+    return names.get(thing, thing) if isinstance(thing, str) else thing
+
+
+def moved(thing, days):
+    """A clause, a question, rules or parts of them with all days moved by so many."""
+    if isinstance(thing, Clause):
+        return Clause(moved(thing.atoms, days), moved(thing.tests, days))
+    if isinstance(thing, Question):
+        return Question(thing.head, moved(thing.clauses, days), moved(thing.unless, days))
+    if isinstance(thing, tuple) and len(thing) == 2 and thing[0] == "day":
+        return "day", thing[1] + days
+    return tuple(moved(part, days) for part in thing) if isinstance(thing, tuple) else thing

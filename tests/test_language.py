@@ -14,7 +14,7 @@ METHODS = set("append clear copy count endswith extend find get index insert isa
               " isupper items join keys ljust lower lstrip partition pop remove replace reverse rfind rjust rpartition"
               " rsplit rstrip setdefault split splitlines startswith strip update upper values zfill bit_length add"
               " discard".split())
-SPECIAL = set("__init__ __eq__ __repr__ __str__ __len__".split())
+SPECIAL = set("__init__ __eq__ __bool__".split())
 LIBRARY = {"heapq": {"heappush", "heappop", "heapify"}, "itertools": {"product", "combinations", "pairwise", "chain"},
            "math": {"gcd", "comb"}, "collections": {"defaultdict"}}
 STATEMENTS = (ast.Assign, ast.AugAssign, ast.If, ast.While, ast.For, ast.Return, ast.Break, ast.Continue, ast.Pass,

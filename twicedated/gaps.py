@@ -27,6 +27,15 @@ def first_gaps(terms):
     return gaps
 
 
+def widen(gaps, term):
+    """Puts one more place to gaps, the last one, for a term of days of which nothing is told."""
+    least, most = window_of(term)
+    row = [gap - most for gap in gaps[0]]
+    for known in gaps:
+        known.append(known[0] + least)
+    gaps.append([*row, 0])
+
+
 def tighten(gaps, low, high, gap):
     """Whether the day at place high can be at least so many days behind that at place low; if so, gaps then tell it."""
     if gaps[low][high] >= gap:
@@ -74,6 +83,21 @@ def spread(gaps, unlikes):
                         return False
                     is_new = True
     return True
+
+
+def loosen(gaps, unlikes):
+    """Lets more days be unlike in the least days, as far as one pair after the other shows; those of these pairs, which
+    are, stay so."""
+    for one, other in unlikes:
+        if gaps[0][one] < gaps[0][other]:
+            tighten(gaps, one, other, 1)
+        else:
+            tighten(gaps, other, one, 1)
+    for one in range(1, len(gaps)):
+        for other in range(1, one):
+            if gaps[0][one] == gaps[0][other] and gaps[one][other] + gaps[other][one] < 0:
+                if not tighten(gaps, other, one, 1):
+                    tighten(gaps, one, other, 1)
 
 
 def _are_apart(gaps, told_apart, one, other):

@@ -1,7 +1,7 @@
 """Which tests of days and names can hold together, and what follows of them."""
 
-from twicedated.gaps import first_gaps, places_of, settled, spread, told, unlikes_of, window_of
-from twicedated.terms import is_of_days, terms_of, tests_of_days, tests_of_names
+from twicedated.gaps import settled, spread, told, widen, window_of
+from twicedated.terms import is_of_days, terms_of
 
 
 def can_hold(tests):
@@ -11,10 +11,11 @@ def can_hold(tests):
 
 def solved(tests):
     """A dict from the terms in tests to days and names by which all hold; None if there are none."""
-    names = Names(tests).solved()
-    if names is None:
+    known = Known(tests)
+    if not known.fits():
         return None
-    days = Days(tests).solved()
+    names = known.names.solved()
+    days = known.days.solved()
     if days is None:
         return None
     return {term: days[term] if is_of_days(term) else names[term] for term in terms_of(tests)}
@@ -24,8 +25,29 @@ class Known:
     """What follows of tests."""
 
     def __init__(self, tests):
-        self.names = Names(tests)
-        self.days = Days(tests)
+        self.names = Names()
+        self.days = Days()
+        self._learn(tests)
+
+    def _learn(self, tests):
+        """Puts tests to those that hold."""
+        for test in tests:
+            if is_of_days(test[1]):
+                self.days.learn(test)
+            else:
+                self.names.learn(test)
+
+    def more(self, tests):
+        """What follows of some more tests, too."""
+        longer = Known(())
+        longer.names = self.names.copied()
+        longer.days = self.days.copied()
+        longer._learn(tests)
+        return longer
+
+    def fits(self):
+        """Whether the tests can hold together, but for days that are only told to be unlike."""
+        return self.names.fits and self.days.fits
 
     def says(self, test):
         """True if a test holds wherever all do, False if it doesn't wherever all do, else None."""
@@ -44,22 +66,35 @@ def _either(is_so, is_not_so):
 class Names:
     """Terms of names in groups that are the same, each with a leader: its constant, if it has one."""
 
-    def __init__(self, tests):
-        of_names = tests_of_names(tests)
-        self.terms = terms_of(of_names)
-        self.leaders = {term: term for term in self.terms}
-        for word, one, other in of_names:
-            if word == "same":
-                self.melt(self.leader(one), self.leader(other))
-        pairs = [(self.leader(one), self.leader(other)) for word, one, other in of_names if word == "unlike"]
-        self.unlikes = {pair: True for pair in pairs}
-        self.fits = not any([self.leader(term) != term for term in self.terms if term[0] == "name"])
-        self.fits = self.fits and not any([one == other for one, other in pairs])
+    def __init__(self):
+        self.leaders = {}
+        self.unlikes = []
+        self.fits = True
 
-    def melt(self, one, other):
+    def copied(self):
+        """The same, to be changed by itself."""
+        more = Names()
+        more.leaders = {term: self.leaders[term] for term in self.leaders}
+        more.unlikes = list(self.unlikes)
+        more.fits = self.fits
+        return more
+
+    def learn(self, test):
+        """A test of names holds, too."""
+        word, one, other = test
+        self.leaders.setdefault(one, one)
+        self.leaders.setdefault(other, other)
+        if word == "same":
+            self._melt(self.leader(one), self.leader(other))
+        else:
+            self.unlikes.append((one, other))
+        self.fits = self.fits and not any([self.leader(here) == self.leader(there) for here, there in self.unlikes])
+
+    def _melt(self, one, other):
         """Makes one group of two, by their leaders."""
         if one[0] == "name":
             self.leaders[other] = one
+            self.fits = self.fits and (other[0] != "name" or one == other)
         else:
             self.leaders[one] = other
 
@@ -69,24 +104,27 @@ class Names:
             term = self.leaders[term]
         return term
 
+    def are_unlike(self, one, other):
+        """Whether two leaders are known to be two names."""
+        if one != other and one[0] == "name" and other[0] == "name":
+            return True
+        pairs = [(self.leader(here), self.leader(there)) for here, there in self.unlikes]
+        return (one, other) in pairs or (other, one) in pairs
+
     def says(self, test):
         """What Known says of a test of names."""
         one = self.leader(test[1])
         other = self.leader(test[2])
-        is_unlike = (one, other) in self.unlikes or (other, one) in self.unlikes
-        is_unlike = is_unlike or one != other and one[0] == "name" and other[0] == "name"
         if test[0] == "same":
-            return _either(one == other, is_unlike)
-        return _either(is_unlike, one == other)
+            return _either(one == other, self.are_unlike(one, other))
+        return _either(self.are_unlike(one, other), one == other)
 
     def solved(self):
-        """The dict from all terms to names by which all tests hold, unlike ones for all groups; None if none do."""
-        if not self.fits:
-            return None
-        constants = {term[1]: True for term in self.terms if term[0] == "name"}
+        """The dict from all terms to names by which all tests hold, if they can, unlike ones for all groups."""
+        constants = {term[1]: True for term in self.leaders if term[0] == "name"}
         found = {}
         number = 0
-        for term in self.terms:
+        for term in self.leaders:
             leader = self.leader(term)
             if leader[0] == "name":
                 found[leader] = leader[1]
@@ -94,18 +132,41 @@ class Names:
                 if f"n{number}" not in constants:
                     found[leader] = f"n{number}"
                 number += 1
-        return {term: found[self.leader(term)] for term in self.terms}
+        return {term: found[self.leader(term)] for term in self.leaders}
 
 
 class Days:
     """Terms of days, and by how many days the one is behind the other one at least."""
 
-    def __init__(self, tests):
-        of_days = tests_of_days(tests)
-        self.places = places_of(terms_of(of_days))
-        self.gaps = first_gaps(list(self.places))
-        self.unlikes = unlikes_of(self.places, of_days)
-        self.fits = told(self.gaps, self.places, of_days) and spread(self.gaps, self.unlikes)
+    def __init__(self):
+        self.places = {}
+        self.gaps = [[0]]
+        self.unlikes = []
+        self.fits = True
+
+    def copied(self):
+        """The same, to be changed by itself."""
+        more = Days()
+        more.places = {term: self.places[term] for term in self.places}
+        more.gaps = [list(row) for row in self.gaps]
+        more.unlikes = list(self.unlikes)
+        more.fits = self.fits
+        return more
+
+    def _place(self, term):
+        """A place for a term, if it has none."""
+        if term not in self.places:
+            self.places[term] = len(self.gaps)
+            widen(self.gaps, term)
+
+    def learn(self, test):
+        """A test of days holds, too."""
+        word, one, other = test
+        self._place(one)
+        self._place(other)
+        if word == "unlike":
+            self.unlikes.append((self.places[one], self.places[other]))
+        self.fits = self.fits and told(self.gaps, self.places, [test]) and spread(self.gaps, self.unlikes)
 
     def gap(self, one, other):
         """How many days the other one of two terms, perhaps new ones, is behind the one at least."""
@@ -146,9 +207,7 @@ class Days:
 
     def solved(self):
         """The dict from all terms to days by which all tests hold; None if none do."""
-        if not self.fits:
-            return None
-        gaps = settled(self.gaps, self.unlikes)
+        gaps = settled(self.gaps, self.unlikes) if self.fits else None
         if gaps is None:
             return None
         return {term: gaps[0][self.places[term]] for term in self.places}

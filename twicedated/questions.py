@@ -65,13 +65,15 @@ def _are_clauses(thing, least):
     return _is_row(thing, least, MOST_CLAUSES) and all([isinstance(clause, Clause) for clause in thing])
 
 
-def _check_minds(clauses):
-    """BadQuestion unless all atoms of clauses are of one mind how many names a relation has."""
-    many = {}
+def minds(clauses, told):
+    """The dict from relations to how many names they have, by what is told and by the atoms of clauses; BadQuestion
+    unless all are of one mind."""
+    many = {relation: told[relation] for relation in told}
     for clause in clauses:
         for relation, names, _ in clause.atoms:
             if many.setdefault(relation, len(names)) != len(names):
                 raise BadQuestion("relation")
+    return many
 
 
 class Question:
@@ -88,7 +90,7 @@ class Question:
             here = variables_of(clause.atoms)
             if not all([term in here for term in head]):
                 raise BadQuestion("safe")
-        _check_minds(clauses + unless)
+        minds(clauses + unless, {})
         self.head = head
         self.clauses = clauses
         self.unless = unless

@@ -7,24 +7,24 @@ DAY_WORDS = ("less", "most", "same", "unlike")
 NAME_WORDS = ("same", "unlike")
 
 
-def _is_marked(thing, mark):
+def is_pair(thing, mark):
     """Whether anything is a pair of this mark and something."""
     return isinstance(thing, tuple) and len(thing) == 2 and isinstance(thing[0], str) and thing[0] == mark
 
 
 def is_variable_name(thing):
     """Whether anything is a variable of names."""
-    return _is_marked(thing, "any") and is_name(thing[1])
+    return is_pair(thing, "any") and is_name(thing[1])
 
 
 def is_name_term(thing):
     """Whether anything is a term of names."""
-    return is_variable_name(thing) or _is_marked(thing, "name") and is_name(thing[1])
+    return is_variable_name(thing) or is_pair(thing, "name") and is_name(thing[1])
 
 
 def is_variable_day(thing):
     """Whether anything is a variable of days; NOW is none."""
-    return _is_marked(thing, "when") and is_name(thing[1])
+    return is_pair(thing, "when") and is_name(thing[1])
 
 
 def is_now(thing):
@@ -34,7 +34,7 @@ def is_now(thing):
 
 def is_day_term(thing):
     """Whether anything is a term of days."""
-    return is_now(thing) or is_variable_day(thing) or _is_marked(thing, "day") and is_day(thing[1])
+    return is_now(thing) or is_variable_day(thing) or is_pair(thing, "day") and is_day(thing[1])
 
 
 def is_test(thing):
