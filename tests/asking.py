@@ -159,7 +159,7 @@ def some_kind(chance, relations, numbers):
 def tight_clause(chance, many, has_now=True, head=()):
     """A clause of facts of one relation of one name, with many tests: there many bars are near each other."""
     while True:
-        atoms = tuple(("pays", (any_(chance.choice("pqrsu")),), NOW if has_now and chance.random() < 0.25 else
+        atoms = tuple(("pays", (any_(chance.choice("pqrsw")),), NOW if has_now and chance.random() < 0.25 else
                        when(chance.choice("tuv"))) for _ in range(many))
         if all(term in [atom[1][0] for atom in atoms] for term in head):
             break

@@ -86,6 +86,16 @@ class LanguageTest(unittest.TestCase):
             self.assertTrue(free, sorted(uses))
             uses = {name: uses[name] for name in uses if name not in free}
 
+    def assert_plain(self, value, bound, place):
+        """A value at module level is plain, or of functions that are defined above it."""
+        if isinstance(value, ast.Dict):
+            for part in [*value.keys, *value.values]:
+                self.assert_plain(part, bound, place)
+        elif isinstance(value, ast.Name):
+            self.assertIn(value.id, bound, place)
+        else:
+            ast.literal_eval(value)
+
     def test_module_level(self):
         for name, tree in trees():
             bound = []
@@ -95,7 +105,7 @@ class LanguageTest(unittest.TestCase):
                 if isinstance(node, ast.Expr):
                     self.assertIsInstance(node.value, ast.Constant, place)
                 if isinstance(node, ast.Assign):
-                    ast.literal_eval(node.value)
+                    self.assert_plain(node.value, bound, place)
                     bound += [target.id for target in node.targets]
                 elif isinstance(node, ast.ImportFrom):
                     bound += [alias.name for alias in node.names]

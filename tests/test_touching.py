@@ -213,6 +213,12 @@ class TouchingTest(unittest.TestCase):
         self.assertIs(bool(self.look_at(question, (), ("name", (None, "day"), *ALL))), True)
         self.assertIs(bool(self.look_at(question, (), ("name", (None, "days"), *ALL))), False)
         self.assertIs(bool(self.look_at(question, (), ("day", ("now",), 0, 0))), False)
+        # Variables of both sorts may have one name.
+        atoms = (("pays", (any_("t"),), T), ("pays", (any_("u"),), U))
+        question = Question((), (Clause(atoms, (("same", any_("t"), any_("u")), ("less", T, U))),), ())
+        self.assertIs(bool(self.look_at(question, (), ("pays", (None,), 0, 0))), True)
+        self.assertIs(bool(self.look_at(question, (Clause(atoms, (("unlike", T, U),)),), ("pays", (None,), *ALL))), False)
+        self.assertIs(bool(self.look_at(question, (Clause(atoms, (("unlike", any_("t"), any_("u")),)),), ("pays", (None,), *ALL))), True)
         # A name that is free is none that a rule, a kind or a question tells.
         rule = Clause((("pays", (P,), T),), tuple(("unlike", P, name(f"n{number}")) for number in range(4)))
         found = self.look_at(Question((P,), (PAYS,), ()), (rule,), ("pays", (None,), *ALL))

@@ -1,14 +1,13 @@
 """Histories and books as texts, and back; and drawings of what was known when."""
 
 from twicedated.books import CLEAR, SET, Book
-from twicedated.errors import BadText
 from twicedated.histories import History, check_moment, is_among
+from twicedated.lines import END_OF_LINE, lines_of
 from twicedated.relations import MOST_NAMES, is_name
 from twicedated.words import change_words, names_by, names_word, number_by
 
 RELATION = "relation"
 FACT = "fact"
-END_OF_LINE = "\n"
 
 
 def _relation_lines(relations):
@@ -31,39 +30,14 @@ def write_book(book):
     return END_OF_LINE.join(_relation_lines(book.relations) + lines)
 
 
-class Line:
-    """The words of a line that is read, one behind the other."""
-
-    def __init__(self, number, text):
-        self.number = number
-        self.words = text.split(" ")
-        self.place = 0
-
-    def is_over(self):
-        """Whether no word is left."""
-        return self.place == len(self.words)
-
-    def word(self):
-        """The next word; BadText if it is lacking."""
-        if self.is_over():
-            raise BadText(self.number, self.place)
-        self.place += 1
-        return self.words[self.place - 1]
-
-    def check(self, is_right):
-        """BadText at the word that was read last unless it can stand there."""
-        if not is_right:
-            raise BadText(self.number, self.place - 1)
-
-    def check_over(self):
-        """BadText if a word is left."""
-        if not self.is_over():
-            raise BadText(self.number, self.place)
-
-
-def _lines_of(text):
-    """The list of the lines of a text; the empty one has none."""
-    return [Line(number, line) for number, line in enumerate(text.split(END_OF_LINE))] if text else []
+def read_relation(line, relations):
+    """The name that the next words of a line tell, which no relation has as yet, and how many names it has; BadText."""
+    name = line.word()
+    line.check(is_name(name) and name not in relations)
+    many = number_by(line.word())
+    line.check(many is not None and 1 <= many <= MOST_NAMES)
+    line.check_over()
+    return name, many
 
 
 def _read_relations(lines):
@@ -73,11 +47,7 @@ def _read_relations(lines):
         if line.words[0] != RELATION:
             break
         line.word()
-        name = line.word()
-        line.check(is_name(name) and name not in relations)
-        many = number_by(line.word())
-        line.check(many is not None and 1 <= many <= MOST_NAMES)
-        line.check_over()
+        name, many = read_relation(line, relations)
         relations[name] = many
     return relations, lines[len(relations):]
 
@@ -124,13 +94,13 @@ def _read_spans(line):
 
 def read_history(text):
     """The history of which this is the text; BadText."""
-    relations, lines = _read_relations(_lines_of(text))
+    relations, lines = _read_relations(lines_of(text))
     return History(relations, [_read_change(line, relations) for line in lines])
 
 
 def read_book(text):
     """The book of which this is the text; BadText."""
-    relations, lines = _read_relations(_lines_of(text))
+    relations, lines = _read_relations(lines_of(text))
     rows = {}
     for line in lines:
         line.check(line.word() == FACT)

@@ -3,9 +3,8 @@
 from twicedated.entries import CHANGE, LETTER, entry_by, entry_line, is_entry
 from twicedated.errors import BadCut, BadEntry
 from twicedated.histories import History
+from twicedated.lines import END_OF_LINE
 from twicedated.relations import checked_relations, is_integer
-
-END_OF_LINE = "\n"
 
 
 def _read(relations, text):
