@@ -175,6 +175,13 @@ class TouchingTest(unittest.TestCase):
         self.assertIs(Untouched(((any_("x-1"), ANN, (("clash",),) * 2),)).shows(both, (), ("lives", ("ann", None), *ALL)), True)
         self.assertEqual(trees, (("clash",),))
 
+    def test_facts_of_four_names(self):
+        terms = (P, Q, R, W)
+        question = Question(terms, (Clause((("owes", terms, NOW),), (("unlike", P, W),)),), ())
+        self.assertIs(bool(self.look_at(question, (), ("owes", (None, "a", None, "b"), *ALL))), True)
+        self.assertIs(bool(self.look_at(question, (), ("owes", ("b", None, None, "b"), *ALL))), False)
+        self.assertIs(bool(self.look_at(question, (), ("owes", ("a", "a", "a", "b"), 0, 0))), True)
+
     def test_lots_of_several_atoms(self):
         kind = ("lives", (None, None), *ALL)
         pair = Question((), (Clause((("lives", (P, Q), T), ("lives", (Q, P), U)), (("same", T, U),)),), ())
@@ -315,8 +322,10 @@ class JudgeTest(unittest.TestCase):
         self.assertIs(shows(points=(home, ("foo", ("a", "b"), 3))), True)
         self.assertIs(shows(points=(home, ("foo", ("a", "b"), 3), ("foo", ("a",), 3))), False)
         self.assertIs(shows(points=(home, ("lives", ("a",), 3))), False)
+        for names, told in ((("a",), True), (("a", "b", "c", "d"), True), ((), False), (("a",) * 5, False), (["a"], False)):
+            self.assertIs(shows(points=(home, ("foo", names, 3))), told)
         no_points = [None, 5, True, "lives", (), [*home], home[:2], (*home, 1), {}, object(), ("lives", ["ann", "oslo"], 7),
-                     ("lives", (), 7), ("lives", ("ann",) * 5, 7)]
+                     ("lives", (), 7), ("lives", ("ann",) * 5, 7), ("lives", None, 7), ("lives", 5, 7), ("lives", object(), 7), ("lives", {}, 7)]
         no_points += [("lives", ("ann", "oslo"), thing) for thing in NO_DAYS] + [(thing, ("ann",), 7) for thing in NO_NAMES]
         no_points += [("lives", ("ann", thing), 7) for thing in NO_NAMES]
         for thing in no_points:
@@ -334,6 +343,26 @@ class JudgeTest(unittest.TestCase):
             self.assertIs(shows(names=names), False)
         self.assertIs(shows(is_gain=False), False)
         self.assertIs(shows(point=("lives", ("ann", "rome"), 9)), False)
+
+    def test_touched_of_other_kinds(self):
+        home, point = ("lives", ("ann", "oslo"), 7), ("lives", ("ann", "rome"), 5)
+        found = Touched((home,), point, 7, ("ann",), True)
+        for kind, told in ((("lives", (None, "rome"), 0, 9), True), (("lives", (None, None), 5, 5), True), (("lives", ("ann", None), 0, LAST), True),
+                           (("lives", ("ann", "rome"), 5, 9), True), (("lives", ("bob", "rome"), 0, 9), False),
+                           (("lives", ("ann", "oslo"), 0, 9), False), (("lives", (None, "oslo"), 0, 9), False), (("lives", ("rome", None), 0, 9), False),
+                           (("lives", (None, None), 6, 9), False), (("lives", (None, None), 0, 4), False), (("pays", ("ann",), 0, 9), False),
+                           (("loves", ("ann", "rome"), 0, 9), False), (("pays", ("ann", "rome"), 5, 5), False)):
+            self.assertIs(found.shows(MOVED, (), kind), told, kind)
+
+    def test_touched_of_other_answers(self):
+        # Who is an answer on both sides, or on none, doesn't show anything.
+        homes = (("lives", ("ann", "oslo"), 7), ("lives", ("bob", "oslo"), 7), ("lives", ("bob", "rome"), 3))
+        point, kind = ("lives", ("ann", "rome"), 5), ("lives", (None, "rome"), 0, 9)
+        for names, is_gain, told in ((("ann",), True, True), (("bob",), True, False), (("zoe",), True, False), (("ann",), False, False),
+                                     (("bob",), False, False), (("zoe",), False, False)):
+            self.assertIs(Touched(homes, point, 7, names, is_gain).shows(MOVED, (), kind), told)
+        for is_gain in (None, 0, 1, "", object()):
+            self.assertIn(Touched(homes, point, 7, ("ann",), is_gain).shows(MOVED, (), kind), (True, False))
 
     def test_touched_by_rules(self):
         kind, home = ("lives", (None, "oslo"), 0, 9), ("lives", ("ann", "rome"), 5)
@@ -407,6 +436,16 @@ class JudgeTest(unittest.TestCase):
                                     (("undone", 1, (0,)), right[1], False), (("barred", 0, (0,)), right[1], False),
                                     (("undone", 0, ()), right[1], False), (("undone", 0, (0, 0)), right[1], False)):
             self.assertIs(Untouched((first, second)).shows(question, (), kind), told, (first, second))
+        # What is asked of a clause must be what the case has as its head.
+        pair = Question((P,), (Clause((("pays", (P,), NOW), ("pays", (Q,), NOW)), ()),), ())
+        self.assertEqual([case.facts for case in touching_cases(pair, (), kind)],
+                         [[("pays", (any_("q-p"),), NOW)], [], [("pays", (any_("p-p"),), NOW)]])
+        nobody = (Clause((("pays", (P,), T),), ()),)
+        barred = (("barred", 0, (0,)),) * 3
+        self.assertIs(Untouched(barred).shows(pair, nobody, kind), True)
+        for place, told in ((0, False), (2, True)):
+            trees = barred[:place] + (("known", 0, (0, 0)),) + barred[place + 1:]
+            self.assertIs(Untouched(trees).shows(pair, nobody, kind), told)
         # A rule has the number that it has among the rules, and its atoms may be the same row.
         rules = (ONE_HOME, Clause((("pays", (P,), T), ("pays", (Q,), U)), (("most", T, U),)))
         plain = Question((P,), (PAYS,), ())
@@ -455,8 +494,22 @@ class JudgeTest(unittest.TestCase):
         found = touching(question, (late,), kind, NEVER)
         self.assertIs(bool(found), False)
         self.assertTrue(STRICT.are_trees(touching_cases(question, (late,), kind), found.trees))
+        self.assertIs(Untouched((("barred", 0, (0,)),)).shows(question, (late,), kind), True)
         compared = ((when("t-p"), when("u-p"), (("barred", 0, (0,)), ("clash",), ("clash",))),)
         self.assertIs(Untouched(compared).shows(question, (late,), kind), True)
+
+    def test_unlike_days_without_room(self):
+        days = [when(f"t{number}") for number in range(3)]
+        unlike = tuple(("unlike", one, other) for one, other in itertools.combinations(days, 2))
+        for bound, told in ((1, True), (2, False)):
+            tests = unlike + tuple(("most", hour, day(bound)) for hour in days)
+            question = Question((P,), (Clause(tuple(("pays", (P,), hour) for hour in days), tests),), ())
+            kind = ("pays", (None,), *ALL)
+            for number, case in enumerate(touching_cases(question, (), kind)):
+                trees = touching(question, (), kind, NEVER).trees if told else (("clash",),) * 7
+                trees = trees[:number] + (("clash",),) + trees[number + 1:]
+                self.assertIs(Untouched(trees).shows(question, (), kind), told)
+                self.assertIs(LENIENT.walk(case, ("clash",), case.tests), told or number not in (0, 4, 6))
 
     def test_trees_that_are_deep(self):
         kind = ("pays", ("ann",), *ALL)

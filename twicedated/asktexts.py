@@ -48,11 +48,12 @@ def atom_text(atom):
 
 def atom_of(word):
     """The atom whose word this is; None if there is none."""
-    relation, bracket, rest = word.partition("(")
-    inner, end, last = rest.partition(")@")
+    relation, _, rest = word.partition("(")
+    inner, _, last = rest.partition(")@")
+    # Where a sign is lacking, nothing is left for the day, which is none then.
     names = [_name_of(part) for part in inner.split(",")]
     day = _day_of(last)
-    if not is_name(relation) or not bracket or not end or day is None:
+    if not is_name(relation) or day is None:
         return None
     if len(names) > MOST_NAMES or not all([name is not None for name in names]):
         return None

@@ -74,7 +74,9 @@ class Bureau:
             return False
         if thing[0] == CHANGE:
             return len(thing) == 2 and change_fault(self.office.history.relations, thing[1]) is None
-        return thing[0] == ASK and len(thing) == 4 and is_name(thing[1]) and self.office.can_ask(thing[2], thing[3])
+        if thing[0] != ASK or len(thing) != 4:
+            return False
+        return is_name(thing[1]) and self.office.has_question(thing[2], thing[3])
 
     def _done(self, deed):
         """What comes of a deed that is done."""

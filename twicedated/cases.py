@@ -35,7 +35,7 @@ class Case:
         self.tests = tests
         self.bars = bars
 
-    def rows(self):
+    def all_rows(self):
         """All rows, facts first."""
         return self.facts if self.x is None else [*self.facts, self.x]
 

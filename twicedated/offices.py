@@ -36,7 +36,7 @@ class Office:
         # (number, kind) to whether the kind touches the question: changes of one kind may come often.
         self.touched = {}
 
-    def can_ask(self, number, now):
+    def has_question(self, number, now):
         """Whether anything is the number of a question, and anything else a day."""
         return is_integer(number) and 0 <= number < len(self.questions) and is_day(now)
 
@@ -92,7 +92,6 @@ class Office:
     def change(self, change):
         """The list of the letters that a change brings, once it is known; None if the rules wouldn't be kept behind it,
         so that nothing is done. BadChange."""
-        check_change(self.history.relations, change)
         behind = self.book.changed(change)
         # Clearing breaks no rule: what matches less still matched ahead.
         if change[0] == SET and not is_legal(behind, self.rules):

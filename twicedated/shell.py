@@ -38,7 +38,7 @@ def _read_clause(line):
     """The clause that all next words of a line tell; BadText."""
     atoms = []
     tests = []
-    while not atoms or not line.is_over():
+    while not line.is_over():
         word = line.word()
         atom = atom_of(word)
         if atom is not None and len(atoms) < MOST_ATOMS and not tests:
@@ -108,7 +108,7 @@ def _read_question(line, office):
 def _do_change(line, office):
     """What a line `set ..` or `clear ..` brings; BadText."""
     change = change_by(line.words)
-    if change is None or change_fault(office.history.relations, change) is not None:
+    if change_fault(office.history.relations, change) is not None:
         raise BadText(line.number, 0)
     letters = office.change(change)
     if letters is None:

@@ -13,13 +13,6 @@ def _row_terms(row):
     return [*row[1], row[2]]
 
 
-def _constants_of(clause):
-    """The list of the terms of a clause that are names."""
-    terms = [term for atom in clause.atoms for term in atom[1]]
-    terms.extend([term for test in clause.tests for term in test[1:]])
-    return [term for term in terms if term[0] == "name"]
-
-
 class Node:
     """Two terms that are compared: what is known by each way to do so, and the trees for the ways so far.
 
@@ -29,14 +22,13 @@ class Node:
     def __init__(self, known, test):
         self.one = test[1]
         self.other = test[2]
-        ways = ways_of(self.one, self.other)
-        knowns = [known.more([way]) for way in ways]
-        order = [place for place in range(len(ways)) if knowns[place].says(test) is not True]
-        order.extend([place for place in range(len(ways)) if place not in order])
+        knowns = [known.more([way]) for way in ways_of(self.one, self.other)]
+        order = [place for place in range(len(knowns)) if knowns[place].says(test) is not True]
+        order.extend([place for place in range(len(knowns)) if place not in order])
         self.waiting = [(place, knowns[place]) for place in order]
         self.trees = {}
 
-    def known(self):
+    def next_known(self):
         """What is known by the next way."""
         return self.waiting[0][1]
 
@@ -50,7 +42,7 @@ class Node:
         return self.one, self.other, tuple([self.trees[place] for place in sorted(self.trees)])
 
 
-class Search:
+class Quest:
     """Looks for names and days by which a case comes about.
 
     What is known is what follows without the tests that tell days to be unlike: these are only looked at where both
@@ -66,8 +58,7 @@ class Search:
 
     def start(self):
         """What is known by the case itself; that terms are themselves only lets them have places."""
-        terms = [NOW] + [term for row in self.case.rows() for term in _row_terms(row)]
-        terms.extend([term for bar in self.case.bars for clause in bar.clauses for term in _constants_of(clause)])
+        terms = [NOW] + [term for row in self.case.all_rows() for term in _row_terms(row)]
         terms.extend([term for test in self.apart for term in test[1:]])
         plain = [test for test in self.case.tests if not tells_apart(test)]
         return Known([("same", term, term) for term in terms] + plain)
@@ -141,20 +132,20 @@ def points_of(rows, worths):
 
 def tree_or_worths(case, most):
     """A tree for a case, and None; or, if it comes about, None, and names and days of its terms; TooMany."""
-    search = Search(case, most)
+    quest = Quest(case, most)
     nodes = []
-    known = search.start()
+    known = quest.start()
     while True:
-        tree, worths, test = search.look(known)
+        tree, worths, test = quest.look(known)
         if worths is not None:
             return None, worths
         if test is not None:
-            nodes.append(search.node(known, test))
+            nodes.append(quest.node(known, test))
         else:
             tree = _put_up(nodes, tree)
             if not nodes:
                 return tree, None
-        known = nodes[-1].known()
+        known = nodes[-1].next_known()
 
 
 def _put_up(nodes, tree):

@@ -60,10 +60,10 @@ class Touched:
             return False
         if not is_of_kind(kind, self.point) or self.point in self.points:
             return False
-        ahead = book_of(self.points, relations)
         behind = book_of([*self.points, self.point], relations)
-        if ahead is None or behind is None or not is_legal(behind, rules):
+        if behind is None or not is_legal(behind, rules):
             return False
+        ahead = book_of(self.points, relations)
         with_it, without_it = (behind, ahead) if self.is_gain else (ahead, behind)
         return _is_answer_of_one(question, with_it, without_it, self.now, self.names)
 

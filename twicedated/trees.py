@@ -47,7 +47,7 @@ def _is_name(thing):
     return is_name_term(thing) or _is_marked(thing, "any", [x_name(place) for place in range(MOST_NAMES)])
 
 
-class Way:
+class Ground:
     """What is so at some place of a tree: the tests of the case and of all ways up to there."""
 
     def __init__(self, tests, known):
@@ -56,7 +56,7 @@ class Way:
 
     def longer(self, test):
         """What is so if a test holds, too."""
-        return Way([*self.tests, test], self.known.more([test]))
+        return Ground([*self.tests, test], self.known.more([test]))
 
     def fits_with(self, tests):
         """Whether what is so and some tests can hold together. Only days that are told to be unlike need trying out."""
@@ -71,15 +71,15 @@ class Way:
 
 def is_tree(case, tree):
     """Whether anything is a tree that tells why a case never comes about. Trees wait in a list, as they may be deep."""
-    waiting = [(tree, Way(case.tests, Known(case.tests)))]
+    waiting = [(tree, Ground(case.tests, Known(case.tests)))]
     while waiting:
-        told, way = waiting.pop()
+        told, ground = waiting.pop()
         if not isinstance(told, tuple):
             return False
         if _is_node(told):
             one, other, trees = told
-            waiting.extend([(smaller, way.longer(test)) for test, smaller in zip(ways_of(one, other), trees)])
-        elif not _is_leaf(case, told, way):
+            waiting.extend([(smaller, ground.longer(test)) for test, smaller in zip(ways_of(one, other), trees)])
+        elif not _is_leaf(case, told, ground):
             return False
     return True
 
@@ -94,22 +94,22 @@ def _is_node(told):
     return _is_name(one) and _is_name(other) and len(trees) == 2
 
 
-def _is_leaf(case, told, way):
+def _is_leaf(case, told, ground):
     """Whether a tuple is a leaf that tells why what is so can't be."""
     if not told or not isinstance(told[0], str):
         return False
     if len(told) == 1:
-        return told == CLASH and not way.fits_with([])
+        return told == CLASH and not ground.fits_with([])
     if len(told) != 3:
         return False
     word, number, rows = told
     for bar in case.bars:
         if bar.word == word:
-            return _is_barred(case, bar, number, rows, way)
+            return _is_barred(case, bar, number, rows, ground)
     return False
 
 
-def _is_barred(case, bar, number, rows, way):
+def _is_barred(case, bar, number, rows, ground):
     """Whether by what is so a bar's clause with anybody's number matches its rows with anybody's numbers."""
     if not is_integer(number) or not 0 <= number < len(bar.clauses) or not isinstance(rows, tuple):
         return False
@@ -119,7 +119,7 @@ def _is_barred(case, bar, number, rows, way):
     if len(rows) != len(clause.atoms):
         return False
     tests = needed(clause, [bar.rows[row] for row in rows], bar.asked, case.head)
-    return tests is not None and all([way.follows(test) for test in tests])
+    return tests is not None and all([ground.follows(test) for test in tests])
 
 
 def are_trees(cases, trees):
