@@ -585,7 +585,8 @@ class WrongTest(unittest.TestCase):
         self.assert_faults(Question((P,), (PAYS,), (Clause((("lives", (P, P), NOW),), ()),)), (), ("lives", (None,), 0, 9), "relation")
 
     def test_most(self):
-        for number in range(80):
+        many = 0
+        for number in range(120):
             question, rules, kind = some_case(number)
             with self.assertRaises(TooMany) as caught:
                 touching(question, rules, kind, 0)
@@ -595,7 +596,9 @@ class WrongTest(unittest.TestCase):
                 try:
                     self.assertEqual(touching(question, rules, kind, most), told)
                 except TooMany as error:
+                    many += 1
                     self.assertEqual(error.most, most)
+        self.assertGreater(many, 3)
         with self.assertRaises(TooMany):
             touching(MOVED, (), ("owns", (None,), 0, 9), 0)
 

@@ -371,6 +371,22 @@ class JudgeTest(unittest.TestCase):
                 self.assertIs(shows_within(one, other, rules, Closed(trees)), True)
                 self.assertTrue(LENIENT.are_trees(within_cases(one, other, rules), trees))
 
+    def test_days_that_are_only_unlike(self):
+        # Of three unlike days up to NOW one is day 2 or behind it, in whatever order they are.
+        hours = (T, U, V)
+        tests = tuple(("unlike", one, other) for one, other in itertools.combinations(hours, 2))
+        thrice = Question((P,), (Clause(tuple(("pays", (P,), hour) for hour in hours), tests + tuple(("most", hour, NOW) for hour in hours)),), ())
+        for number, told in ((1, True), (2, False)):
+            late = Question((P,), (Clause((("pays", (P,), T),), (("less", day(number), NOW),)),), ())
+            found = within(thrice, late, (), NEVER)
+            self.assertIs(bool(found), told)
+            self.assertIs(shows_within(thrice, late, (), found), True)
+            self.assertTrue(not told or STRICT.are_trees(within_cases(thrice, late, ()), found.trees))
+            # Whoever sees at once what follows needn't compare them.
+            trees = (("known", 0, (0,)),)
+            self.assertIs(LENIENT.are_trees(within_cases(thrice, late, ()), trees), told)
+            self.assertIs(shows_within(thrice, late, (), Closed(trees)), told)
+
     def test_attributes(self):
         found, closed = Found((1,), 2, (3,)), Closed((CLASH,))
         self.assertEqual((found.points, found.now, found.names, closed.trees), ((1,), 2, (3,), (CLASH,)))
