@@ -95,9 +95,8 @@ def loosen(gaps, unlikes):
             tighten(gaps, other, one, 1)
     for one in range(1, len(gaps)):
         for other in range(1, one):
-            if gaps[0][one] == gaps[0][other] and gaps[one][other] + gaps[other][one] < 0:
-                if not tighten(gaps, other, one, 1):
-                    tighten(gaps, one, other, 1)
+            if gaps[0][one] == gaps[0][other] and not tighten(gaps, other, one, 1):
+                tighten(gaps, one, other, 1)
 
 
 def _are_apart(gaps, told_apart, one, other):
