@@ -1,13 +1,17 @@
 """Offices: they keep a book and rules, answer, and send letters to those whose answers aren't so any more."""
 
-from twicedated.answering import answers, is_legal
+from twicedated.answering import answers, is_legal, timelines
 from twicedated.askerrors import BadAsk
 from twicedated.books import SET, check_change, empty_book
 from twicedated.histories import History, check_moment
 from twicedated.kinds import check_together
 from twicedated.questions import Question
 from twicedated.relations import is_day, is_integer, is_name
+from twicedated.spans import has
 from twicedated.touching import touching
+
+# Of more days than these it is faster to tell the answers of all days at once.
+FEW_DAYS = 3
 
 
 def _check_questions(relations, rules, questions):
@@ -99,18 +103,30 @@ class Office:
         keys = [key for key in sorted(self.told) if self.can_touch(key[1], change)]
         self.history = self.history.said(change)
         self.book = behind
-        return [letter for letter in [self._letter(key) for key in keys] if letter is not None]
+        self.looked += len(keys)
+        return self._letters(keys)
 
-    def _letter(self, key):
-        """The letter to somebody of whom the answers aren't any more what was told last; None if they are."""
-        who, number, now = key
-        self.looked += 1
-        found = self.answers(number, now)
-        if found == self.told[key][-1][1]:
-            return None
-        self._tell(key, found)
-        self.sent += 1
-        return self.sent - 1, who, number, now, found
+    def _letters(self, keys):
+        """The list of the letters to those, of some, to whom other answers were told than there are now."""
+        days = {}
+        for _, number, now in keys:
+            days.setdefault(number, {})[now] = True
+        found = {number: self._answers_on(number, list(days[number])) for number in days}
+        letters = []
+        for key in keys:
+            who, number, now = key
+            if found[number][now] != self.told[key][-1][1]:
+                letters.append((self.sent, who, number, now, found[number][now]))
+                self.sent += 1
+                self._tell(key, found[number][now])
+        return letters
+
+    def _answers_on(self, number, days):
+        """The dict from some days to the answers of a question."""
+        if len(days) <= FEW_DAYS:
+            return {now: self.answers(number, now) for now in days}
+        rows = timelines(self.questions[number], self.book)
+        return {now: tuple([names for names in rows if has(rows[names], now)]) for now in days}
 
     def can_touch(self, number, change):
         """Whether the kind of a change touches a question; BadAsk, BadChange."""
